@@ -9,22 +9,9 @@ import (
 
 	"demotic/api"
 	"demotic/place"
+	"demotic/rows"
 	"demotic/token"
 )
-
-// eachText does a thing with all rows of at most n of the parts.
-func eachText(parts []string, n int, do func(s string)) {
-	var more func(s string, n int)
-	more = func(s string, n int) {
-		do(s)
-		for _, p := range parts {
-			if n > 0 {
-				more(s+p, n-1)
-			}
-		}
-	}
-	more("", n)
-}
 
 // blanks: does nothing but blanks stand in s, which begins at the byte at?
 func blanks(s string, at int) bool {
@@ -73,8 +60,8 @@ func standing(t *testing.T, s string) {
 
 // P2.3, R2: of many texts.
 func TestStanding(t *testing.T) {
-	eachText([]string{"a", "1", "\"", "`", "\\", "/", "*", "\n", " ", ")", "+", "\u00e4"}, 5, func(s string) { standing(t, s) })
-	eachText([]string{"\ufeff", "\xff", "\r", "return", "<", "=", "&", "^", ".", "@"}, 5, func(s string) { standing(t, s) })
+	rows.Each([]string{"a", "1", "\"", "`", "\\", "/", "*", "\n", " ", ")", "+", "\u00e4"}, 5, func(s string) { standing(t, s) })
+	rows.Each([]string{"\ufeff", "\xff", "\r", "return", "<", "=", "&", "^", ".", "@"}, 5, func(s string) { standing(t, s) })
 }
 
 // FuzzScan: P2.3, and that every call ends, at whatever bytes.
@@ -167,7 +154,7 @@ func TestLikeGo(t *testing.T) {
 			}
 		}
 	}
-	eachText([]string{"a ", "\"", "`", "\\", "/", "*", "\n", " ", "}", "+"}, 5, func(s string) {
+	rows.Each([]string{"a ", "\"", "`", "\\", "/", "*", "\n", " ", "}", "+"}, 5, func(s string) {
 		if !strings.Contains(s, "\\") { // Go asks what stands behind one
 			likeGo(t, s)
 		}

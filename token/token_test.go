@@ -30,8 +30,8 @@ func scanned(t *testing.T, s string) []token.Token {
 	return l
 }
 
-// rows tells tokens as texts, "kind text", to be compared at a glance.
-func rows(l []token.Token) []string {
+// told tells tokens as texts, "kind text", to be compared at a glance.
+func told(l []token.Token) []string {
 	var out []string
 	for _, x := range l {
 		out = append(out, string(rune('0'+x.Kind))+" "+x.Text)
@@ -72,7 +72,7 @@ func TestKinds(t *testing.T) {
 		"a//*\nb;":                     {"1 a", "6 \n", "1 b", "6 ;"},
 		"a/*//*/b;":                    {"1 a", "1 b", "6 ;"},
 	} {
-		if got := rows(scanned(t, s)); !slices.Equal(got, want) {
+		if got := told(scanned(t, s)); !slices.Equal(got, want) {
 			t.Errorf("Scan(%q): %q, not %q", s, got, want)
 		}
 	}
@@ -111,7 +111,7 @@ func TestSigns(t *testing.T) {
 		"- -+ +;":  {"6 -", "6 -", "6 +", "6 +", "6 ;"},
 		"a<<b>=c;": {"1 a", "6 <<", "1 b", "6 >=", "1 c", "6 ;"},
 	} {
-		if got := rows(scanned(t, s)); !slices.Equal(got, want) {
+		if got := told(scanned(t, s)); !slices.Equal(got, want) {
 			t.Errorf("Scan(%q): %q, not %q", s, got, want)
 		}
 	}
