@@ -132,17 +132,6 @@ func TestAllGroups(t *testing.T) {
 	}
 }
 
-// noise tells bytes that look like chance, the same ones each time.
-func noise(seed, size int) []byte {
-	x := uint32(seed) * 2654435761
-	out := make([]byte, size)
-	for i := range out {
-		x = x*1664525 + 1013904223
-		out[i] = byte(x >> 24)
-	}
-	return out
-}
-
 // grown is a right number of some bytes: figures, or groups, or powers of two and their neighbours.
 func grown(b []byte) string {
 	if len(b) == 0 {
@@ -176,7 +165,7 @@ func grown(b []byte) string {
 // P9.1, P9.2: numbers of all lengths.
 func TestNoise(t *testing.T) {
 	for seed := range 40000 {
-		b := noise(seed, 2+seed%150)
+		b := rows.Noise(seed, 2+seed%150)
 		cut := int(b[0]) % len(b)
 		a, c := grown(b[:cut]), grown(b[cut:])
 		likeTwo(t, a, c)
@@ -238,7 +227,7 @@ func TestUndone(t *testing.T) {
 		}
 	}
 	for seed := range 20000 {
-		b := noise(seed, 3+seed%90)
+		b := rows.Noise(seed, 3+seed%90)
 		undone(t, grown(b[:len(b)/3]), grown(b[len(b)/3:len(b)*2/3]), grown(b[len(b)*2/3:]))
 	}
 }

@@ -386,17 +386,6 @@ func TestShort(t *testing.T) {
 	}
 }
 
-// noise tells bytes that look like chance.
-func noise(seed uint32, size int) []byte {
-	b := make([]byte, size)
-	seed *= 2654435761 // seeds beside one another are to look different from the first byte on
-	for i := range b {
-		seed = seed*1664525 + 1013904223
-		b[i] = byte(seed >> 24)
-	}
-	return b
-}
-
 const words = "( ) [ ] { } , ; . : = := ++ -- + - * / == < && || ! ~ | a b _ T int 1 0x1f 017 08 \"s\" `s` \"\\q\" " +
 	"break continue else for func if import interface package range return struct type var map << \n"
 
@@ -432,9 +421,9 @@ func torn(s string, choice []byte) string {
 func TestTorn(t *testing.T) {
 	begun := ruled().begin("file")
 	fine := 0
-	for seed := range uint32(4000) {
-		b, _ := show.File(trees.Grow(noise(seed, 150), "file", 7+int(seed%30)))
-		s := torn(string(b), noise(seed+7777, int(seed%4)*5))
+	for seed := range 4000 {
+		b, _ := show.File(trees.Grow(rows.Noise(seed, 150), "file", 7+seed%30))
+		s := torn(string(b), rows.Noise(seed+7777, seed%4*5))
 		holds(t, begun, s)
 		if _, e := begun.wanted(s); e == api.OK {
 			fine++
@@ -460,9 +449,9 @@ func TestLone(t *testing.T) {
 		}
 	}
 	rows.Each([]string{"a", "1", `"\n"`, "(", ")", "[", "]", "{", "}", ",", ";", "\n", "-", "+", ".", "func", " "}, 4, check)
-	for seed := range uint32(4000) {
-		s, _ := show.Text(trees.Grow(noise(seed, 60), "expression", 7+int(seed%30)), "expression")
-		check(torn(s, noise(seed+7777, int(seed%4)*5)))
+	for seed := range 4000 {
+		s, _ := show.Text(trees.Grow(rows.Noise(seed, 60), "expression", 7+seed%30), "expression")
+		check(torn(s, rows.Noise(seed+7777, seed%4*5)))
 	}
 	if fine < 1000 {
 		t.Errorf("%d are fine", fine)

@@ -10,6 +10,7 @@ import (
 	"demotic/api"
 	"demotic/lit"
 	"demotic/read"
+	"demotic/rows"
 	"demotic/trees"
 )
 
@@ -284,8 +285,8 @@ func likeGo(t *testing.T, s string) bool {
 // P7.1, P8.1: what is told, and what is read, is to Go what it is here, and begins where it does there. (Go has other numbers, and takes what stands behind a comma in [ ] for types.)
 func TestLikeGo(t *testing.T) {
 	same, others := 0, 0
-	for seed := range uint32(3000) {
-		n := trees.Grow(noise(seed, 150), "file", 7+int(seed%30))
+	for seed := range 3000 {
+		n := trees.Grow(rows.Noise(seed, 150), "file", 7+seed%30)
 		n.Text = "p" // to Go _ is none
 		b := shown(t, n)
 		if want, ok := asGo(string(b)); ok {
@@ -295,8 +296,8 @@ func TestLikeGo(t *testing.T) {
 			}
 			likeGo(t, string(b))
 		}
-		for change := range uint32(4) {
-			if likeGo(t, torn(string(b), noise(seed*4+change, 5))) {
+		for change := range 4 {
+			if likeGo(t, torn(string(b), rows.Noise(seed*4+change, 5))) {
 				others++
 			}
 		}

@@ -8,6 +8,7 @@ import (
 	"demotic/api"
 	"demotic/lit"
 	"demotic/read"
+	"demotic/rows"
 	"demotic/show"
 	"demotic/token"
 	"demotic/tree"
@@ -26,14 +27,14 @@ func tokens(t *testing.T, b []byte) []token.Token {
 
 // P8.2: a right file's text is read as it was.
 func TestRound(t *testing.T) {
-	for seed := range uint32(6000) {
-		n := trees.Grow(noise(seed, 50+int(seed%400)), "file", 7+int(seed%94))
+	for seed := range 6000 {
+		n := trees.Grow(rows.Noise(seed, 50+seed%400), "file", 7+seed%94)
 		b := shown(t, n)
 		again, at, e := read.File(b)
 		if e != api.OK || at != 0 || !tree.Same(again, n) {
 			t.Fatalf("P8.2: %q: %d at %d, %s, not %s", b, e, at, trees.Text(again), trees.Text(n))
 		}
-		x := trees.Grow(noise(seed, 50+int(seed%100)), "expression", 7+int(seed%94))
+		x := trees.Grow(rows.Noise(seed, 50+seed%100), "expression", 7+seed%94)
 		s, _ := show.Text(x, "expression")
 		if got, at, e := read.Expr(s); e != api.OK || at != 0 || !tree.Same(got, x) {
 			t.Fatalf("P8.2: %q: %d at %d, %s, not %s", s, e, at, trees.Text(got), trees.Text(x))
@@ -97,8 +98,8 @@ func brackets(l []token.Token) [][2]int {
 // P7.1: none of the brackets round an operand may be left out: something else would be read, or nothing.
 func TestNeededBrackets(t *testing.T) {
 	count := 0
-	for seed := range uint32(2000) {
-		n := trees.Grow(noise(seed, 150), "file", 7+int(seed%94))
+	for seed := range 2000 {
+		n := trees.Grow(rows.Noise(seed, 150), "file", 7+seed%94)
 		l := tokens(t, shown(t, n))
 		for _, pair := range brackets(l) {
 			var parts []string
@@ -142,8 +143,8 @@ func TestMoreBrackets(t *testing.T) {
 
 // P8.1: blanks and notes between tokens change nothing but where nodes begin; a line's end is a semicolon where layer 2 puts one in.
 func TestBetween(t *testing.T) {
-	for seed := range uint32(500) {
-		n := trees.Grow(noise(seed, 150), "file", 7+int(seed%30))
+	for seed := range 500 {
+		n := trees.Grow(rows.Noise(seed, 150), "file", 7+seed%30)
 		l := tokens(t, shown(t, n))
 		for _, between := range []string{" ", "\t\r ", " /* \n */", " // note\n"} {
 			s := "\ufeff" + between
@@ -199,10 +200,10 @@ func TestTokens(t *testing.T) {
 			t.Fatalf("P8.2: %q: %q, %q, not %q", s, b, got, want)
 		}
 	}
-	for seed := range uint32(4000) {
-		b := shown(t, trees.Grow(noise(seed, 150), "file", 7+int(seed%30)))
+	for seed := range 4000 {
+		b := shown(t, trees.Grow(rows.Noise(seed, 150), "file", 7+seed%30))
 		check(string(b))
-		check(torn(string(b), noise(seed+7777, 5)))
+		check(torn(string(b), rows.Noise(seed+7777, 5)))
 	}
 	for _, s := range []string{
 		"package p; type T struct { a int; b (c); }; type A[P any,] = (func(P,) (P)); func f() { ; { ; }; ; x(1,) }",

@@ -9,6 +9,7 @@ import (
 	"demotic/api"
 	"demotic/lit"
 	"demotic/place"
+	"demotic/rows"
 	"demotic/show"
 	"demotic/token"
 	"demotic/tree"
@@ -374,17 +375,6 @@ func TestNewMemory(t *testing.T) {
 	}
 }
 
-// noise tells bytes that look like chance.
-func noise(seed uint32, size int) []byte {
-	b := make([]byte, size)
-	seed *= 2654435761 // seeds beside one another are to look different from the first byte on
-	for i := range b {
-		seed = seed*1664525 + 1013904223
-		b[i] = byte(seed >> 24)
-	}
-	return b
-}
-
 // leaves tells the names, numbers and texts of a tree, in the order in which they are told.
 func leaves(n api.Node) []string {
 	var l []string
@@ -413,8 +403,8 @@ func words(n api.Node) []string {
 
 // P7.2: a file's text is one, with the tree's names, numbers and texts in order.
 func TestTokens(t *testing.T) {
-	for seed := range uint32(2000) {
-		n := trees.Grow(noise(seed, 300), "file", 7+int(seed%60))
+	for seed := range 2000 {
+		n := trees.Grow(rows.Noise(seed, 300), "file", 7+seed%60)
 		b, e := show.File(n)
 		l, _, f := token.Scan(b)
 		if e != api.OK || f != api.OK || place.Wrong(b) >= 0 {

@@ -4,6 +4,7 @@ import (
 	"testing"
 
 	"demotic/api"
+	"demotic/rows"
 	"demotic/tree"
 	"demotic/trees"
 )
@@ -50,23 +51,12 @@ func TestNoTree(t *testing.T) {
 	}
 }
 
-// noise tells bytes that look like chance.
-func noise(seed uint32, size int) []byte {
-	b := make([]byte, size)
-	seed *= 2654435761 // seeds beside one another are to look different from the first byte on
-	for i := range b {
-		seed = seed*1664525 + 1013904223
-		b[i] = byte(seed >> 24)
-	}
-	return b
-}
-
 // What grows is right, of at most that depth, the same again, and not always small.
 func TestGrow(t *testing.T) {
 	for _, sort := range []string{"file", "declaration", "type", "expression", "statement", "signature"} {
 		size := 0
-		for seed := range uint32(300) {
-			b := noise(seed, 600)
+		for seed := range 300 {
+			b := rows.Noise(seed, 600)
 			for _, room := range []int{7, 8, 20, 100} {
 				n := trees.Grow(b, sort, room)
 				if !tree.Right(n, sort) || tree.Depth(n) > room || !tree.Same(n, trees.Grow(b, sort, room)) {
@@ -87,8 +77,8 @@ func TestGrow(t *testing.T) {
 // Every kind grows.
 func TestGrowKinds(t *testing.T) {
 	met := map[int]bool{}
-	for seed := range uint32(300) {
-		n := trees.Grow(noise(seed, 600), "file", 20)
+	for seed := range 300 {
+		n := trees.Grow(rows.Noise(seed, 600), "file", 20)
 		for kind := range api.Kinds {
 			met[kind] = met[kind] || len(tree.Find(n, kind)) > 0
 		}
