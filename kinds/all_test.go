@@ -197,6 +197,7 @@ func likeAssigns(t *testing.T, l []kinds.Def, from, to kinds.Type) {
 	case a.Kind != 1 && a.Kind != 3 && a.Kind != 4, b.Kind != 1 && b.Kind != 3 && b.Kind != 4:
 		want = want || written(kinds.Full(l, x)) == written(kinds.Full(l, y))
 	}
+	want = want && a.Kind != 0 && b.Kind != 0
 	if kinds.Assigns(l, from, to) != want {
 		t.Fatalf("P10.1: Assigns from %s to %s, by %v: %t", written(from), written(to), l, !want)
 	}

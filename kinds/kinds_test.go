@@ -389,16 +389,45 @@ func TestAssignsUntyped(t *testing.T) {
 	}
 }
 
-// P10.1: what is nothing in full is the same in full as what is, too. (The words make no exception of it.)
+// P10.1: what is no type, as it is or in full, may not be assigned, and nothing may be assigned to it.
 func TestAssignsNothing(t *testing.T) {
-	l := definitions()
-	for _, s := range []string{"O", "O1", "O2", "M", "A[int]", "[]O", "func() M"} {
-		if !kinds.Assigns(l, defs.Type(s), defs.Type("O")) || !kinds.Assigns(l, nothing, defs.Type(s)) {
-			t.Errorf("P10.1: Assigns from %s to one that is nothing in full, too", s)
+	l := append(definitions(), defs.Of("type Q1 []O; type Deep = A1")...)
+	l = append(l, chain(100, "type # = @", "int")...)
+	no := []kinds.Type{nothing, typ(0, "int"), typ(0, "N"), typ(0, "unknown"), typ(0, "", typ(1, "int")), typ(3, "Deep"), function(20000)}
+	for _, s := range []string{"O", "O1", "O2", "M", "M[int, int]", "A[int]", "V", "V[O]", "[]O", "func() M", "unknown[M]"} {
+		no = append(no, defs.Type(s))
+	}
+	others := []kinds.Type{typ(2, "int"), typ(2, ""), typ(4, "P"), typ(7, ""), typ(8, ""), function(0), function(19997)}
+	for _, s := range []string{"int", "bool", "N", "unknown", "unknown[int]", "L[int, int]", "R", "Q1", "A", "L[int]", "Q", "S", "Z[int]", "[]int", "func()"} {
+		others = append(others, defs.Type(s))
+	}
+	for i, x := range no {
+		for j, y := range no {
+			if kinds.Assigns(l, x, y) {
+				t.Errorf("P10.1: Assigns from what is no type (%d) to what is none (%d)", i, j)
+			}
 		}
-		for _, other := range []string{"int", "[]int", "N", "A", "L[int]", "Q", "Z[int]", "func()"} {
-			if kinds.Assigns(l, defs.Type(s), defs.Type(other)) || kinds.Assigns(l, defs.Type(other), defs.Type(s)) {
-				t.Errorf("P10.1: Assigns from %s to %s, or back", s, other)
+		for j, y := range others {
+			if kinds.Assigns(l, x, y) || kinds.Assigns(l, y, x) {
+				t.Errorf("P10.1: Assigns from what is no type (%d) to %d, or back", i, j)
+			}
+		}
+	}
+}
+
+// P10.1: what is a type may be assigned to itself, also where nothing, or nothing in full, stands behind it.
+func TestAssignsNothingBehind(t *testing.T) {
+	l := append(definitions(), defs.Of("type Q1 []O; type Q2 []O")...)
+	names := []string{"unknown", "unknown2", "unknown[int]", "N[int]", "L", "L[int, int]", "R", "H[int]", "W1", "Q1", "Q2"}
+	for i, from := range names {
+		for j, to := range names {
+			if kinds.Assigns(l, defs.Type(from), defs.Type(to)) != (i == j) {
+				t.Errorf("P10.1: Assigns from %s to %s: %t", from, to, i != j)
+			}
+		}
+		for _, x := range []kinds.Type{typ(5, "", typ(0, "")), typ(7, ""), typ(8, ""), typ(6, "")} {
+			if kinds.Assigns(l, defs.Type(from), x) || kinds.Assigns(l, x, defs.Type(from)) {
+				t.Errorf("P10.1: Assigns from %s to %s, or back", from, written(x))
 			}
 		}
 	}
