@@ -7,53 +7,11 @@ import (
 	"testing"
 
 	"demotic/api"
+	"demotic/defs"
 	"demotic/kinds"
 	"demotic/rows"
 	"demotic/tree"
 )
-
-// maker makes types and definitions of any bytes, which choose what is in them.
-type maker struct{ b []byte }
-
-func (m *maker) pick(n int) int {
-	if len(m.b) == 0 {
-		return 0
-	}
-	x := int(m.b[0]) % n
-	m.b = m.b[1:]
-	return x
-}
-
-func (m *maker) name() string {
-	l := [...]string{"A", "B", "C", "D", "P", "Q", "int", "bool", "string", "", "x"}
-	return l[m.pick(len(l))]
-}
-
-// typ makes a type, right or not.
-func (m *maker) typ(room int) kinds.Type {
-	l := [...]int{1, 3, 3, 3, 4, 4, 5, 6, 3, 2, 7, 8, 0, 9}
-	t := typ(l[m.pick(len(l))], m.name())
-	for range [...]int{0, 0, 0, 1, 1, 2, 3}[m.pick(7)] {
-		if room > 1 {
-			t.Args = append(t.Args, m.typ(room-1))
-		}
-	}
-	return t
-}
-
-// defs makes a few definitions.
-func (m *maker) defs() []kinds.Def {
-	var l []kinds.Def
-	for range m.pick(7) {
-		d := kinds.Def{Name: m.name(), Alias: m.pick(3) > 0}
-		for range [...]int{0, 0, 1, 2}[m.pick(4)] {
-			d.Params = append(d.Params, m.name())
-		}
-		d.Type = m.typ(3)
-		l = append(l, d)
-	}
-	return l
-}
 
 // swapped is with types for parameters, done from the last one back.
 func swapped(t kinds.Type, params []string, by []kinds.Type) kinds.Type {
@@ -151,7 +109,7 @@ func likeFull(t *testing.T, l []kinds.Def, x kinds.Type) {
 		is(t, "P10.1: Full, where too many types are looked at", got, nothing)
 		return
 	} else if count != size(got) {
-		t.Fatalf("P10.1: Full of %s, by %v: %d types, not %d", written(x), l, size(got), count)
+		t.Fatalf("P10.1: Full of %s, by %v: %d types, not %d", defs.Written(x), l, size(got), count)
 	}
 	want, more := x, true
 	for more && size(want) < 2000 {
@@ -182,7 +140,7 @@ func likeBehind(t *testing.T, l []kinds.Def, x kinds.Type) {
 		is(t, "P10.1: Behind", got, next) // of the definitions here no way is just 100 steps long
 	}
 	if kinds.Comparable(l, x) != (got.Kind == 1) || kinds.Ordered(l, x) != (got.Kind == 1 && got.Name != "bool") {
-		t.Fatalf("P10.1: Comparable, Ordered of %s", written(x))
+		t.Fatalf("P10.1: Comparable, Ordered of %s", defs.Written(x))
 	}
 }
 
@@ -190,16 +148,16 @@ func likeBehind(t *testing.T, l []kinds.Def, x kinds.Type) {
 func likeAssigns(t *testing.T, l []kinds.Def, from, to kinds.Type) {
 	a, b := kinds.Full(l, from), kinds.Full(l, to)
 	x, y := kinds.Behind(l, a), kinds.Behind(l, b)
-	want := written(a) == written(b)
+	want := defs.Written(a) == defs.Written(b)
 	switch {
 	case a.Kind == 2:
 		want = y.Kind == 1 && y.Name == a.Name
 	case a.Kind != 1 && a.Kind != 3 && a.Kind != 4, b.Kind != 1 && b.Kind != 3 && b.Kind != 4:
-		want = want || written(kinds.Full(l, x)) == written(kinds.Full(l, y))
+		want = want || defs.Written(kinds.Full(l, x)) == defs.Written(kinds.Full(l, y))
 	}
 	want = want && a.Kind != 0 && b.Kind != 0
 	if kinds.Assigns(l, from, to) != want {
-		t.Fatalf("P10.1: Assigns from %s to %s, by %v: %t", written(from), written(to), l, !want)
+		t.Fatalf("P10.1: Assigns from %s to %s, by %v: %t", defs.Written(from), defs.Written(to), l, !want)
 	}
 }
 
@@ -230,16 +188,16 @@ func bare(t kinds.Type) kinds.Type {
 func likeTree(t *testing.T, x kinds.Type) {
 	n, s := kinds.Tree(x), kinds.Text(x)
 	if tree.Right(n, "type") != (s != "") {
-		t.Fatalf("P10.2: Text(%s): %q", written(x), s)
+		t.Fatalf("P10.2: Text(%s): %q", defs.Written(x), s)
 	}
 	if s != "" {
 		of := kinds.Of(n, nil)
 		if !tree.Same(kinds.Tree(of), n) || kinds.Text(of) != s {
-			t.Fatalf("P10.3: %s: %s", written(x), written(of))
+			t.Fatalf("P10.3: %s: %s", defs.Written(x), defs.Written(of))
 		}
 	}
 	if (n.Kind == api.None) != (x.Kind < 1 || x.Kind > 6 || x.Kind == 2 || x.Kind != 1 && x.Kind != 4 && lacking(x)) {
-		t.Fatalf("P10.2: Tree(%s): kind %d", written(x), n.Kind)
+		t.Fatalf("P10.2: Tree(%s): kind %d", defs.Written(x), n.Kind)
 	}
 }
 
@@ -256,10 +214,10 @@ func lacking(t kinds.Type) bool {
 
 // likeAll holds what is told of a few types against other ways to tell it.
 func likeAll(t *testing.T, b []byte) {
-	m := &maker{b}
-	l := m.defs()
-	types := []kinds.Type{m.typ(4), m.typ(3), m.typ(2), typ(3, m.name()), typ(2, m.name())}
-	params := []string{m.name(), m.name(), m.name()}[:m.pick(4)]
+	m := defs.Grow(b)
+	l := m.Defs()
+	types := []kinds.Type{m.Type(4), m.Type(3), m.Type(2), typ(3, m.Name()), typ(2, m.Name())}
+	params := []string{m.Name(), m.Name(), m.Name()}[:m.Pick(4)]
 	for i, x := range types {
 		likeFull(t, l, x)
 		likeBehind(t, l, x)
@@ -267,8 +225,8 @@ func likeAll(t *testing.T, b []byte) {
 		likeWith(t, x, params, types[i:])
 		for _, y := range types {
 			likeAssigns(t, l, x, y)
-			if kinds.Same(x, y) != (written(x) == written(y)) {
-				t.Fatalf("P10.1: Same(%s, %s)", written(x), written(y))
+			if kinds.Same(x, y) != (defs.Written(x) == defs.Written(y)) {
+				t.Fatalf("P10.1: Same(%s, %s)", defs.Written(x), defs.Written(y))
 			}
 		}
 	}
@@ -327,11 +285,11 @@ func (m memory) seeNode(n api.Node, name string) bool {
 // R4: what is handed in is neither changed nor kept, what is handed out is new.
 func TestMemory(t *testing.T) {
 	for seed := range 3000 {
-		m := &maker{rows.Noise(seed, 100)}
-		l, x, y := m.defs(), m.typ(5), m.typ(4)
+		m := defs.Grow(rows.Noise(seed, 100))
+		l, x, y := m.Defs(), m.Type(5), m.Type(4)
 		x.Args = append(x.Args, y, y)[:len(x.Args)]
 		params, by := []string{"A", "P", "Q"}, []kinds.Type{y, y, x}
-		before := [...]string{written(x), written(typ(0, "", x.Args[:cap(x.Args)]...)), written(typ(0, "", by...))}
+		before := [...]string{defs.Written(x), defs.Written(typ(0, "", x.Args[:cap(x.Args)]...)), defs.Written(typ(0, "", by...))}
 		seen := memory{}
 		seen.seeType(x, "x")
 		seen.seeType(y, "y")
@@ -340,14 +298,14 @@ func TestMemory(t *testing.T) {
 		}
 		for name, got := range map[string]kinds.Type{"With": kinds.With(x, params, by), "Full": kinds.Full(l, x), "Behind": kinds.Behind(l, x), "Of": kinds.Of(kinds.Tree(x), params)} {
 			if !seen.seeType(got, name) {
-				t.Fatalf("R4: %s of %s shares memory", name, written(x))
+				t.Fatalf("R4: %s of %s shares memory", name, defs.Written(x))
 			}
 		}
 		if !seen.seeNode(kinds.Tree(x), "Tree") {
-			t.Fatalf("R4: Tree of %s shares memory", written(x))
+			t.Fatalf("R4: Tree of %s shares memory", defs.Written(x))
 		}
 		kinds.Assigns(l, x, y)
-		if before != [...]string{written(x), written(typ(0, "", x.Args[:cap(x.Args)]...)), written(typ(0, "", by...))} {
+		if before != [...]string{defs.Written(x), defs.Written(typ(0, "", x.Args[:cap(x.Args)]...)), defs.Written(typ(0, "", by...))} {
 			t.Fatalf("R4: %s was changed", before[0])
 		}
 	}
@@ -356,14 +314,14 @@ func TestMemory(t *testing.T) {
 // R1: every call ends, whatever is within one another.
 func TestDeep(t *testing.T) {
 	p := typ(4, "P")
-	deep := inSlices(9999, p)
+	deep := defs.Slices(9999, p)
 	l := []kinds.Def{{Name: "N", Params: []string{"P"}, Type: deep}, {Name: "A", Params: []string{"P"}, Type: deep, Alias: true}}
 	n := typ(3, "N", typ(1, "int"))
-	is(t, "P10.1: Behind of a deep definition", kinds.Behind(l, n), inSlices(9999, typ(1, "int")))
-	is(t, "P10.1: Full of a deep alias", kinds.Full(l, typ(3, "A", typ(1, "int"))), inSlices(9999, typ(1, "int")))
+	is(t, "P10.1: Behind of a deep definition", kinds.Behind(l, n), defs.Slices(9999, typ(1, "int")))
+	is(t, "P10.1: Full of a deep alias", kinds.Full(l, typ(3, "A", typ(1, "int"))), defs.Slices(9999, typ(1, "int")))
 	is(t, "P10.1: Full of a deep type", kinds.Full(l, deep), deep)
-	is(t, "P10.1: With of a deep type", kinds.With(deep, []string{"P"}, []kinds.Type{deep}), inSlices(19998, p))
-	if kinds.Assigns(l, n, n) != true || kinds.Assigns(l, n, inSlices(9999, typ(1, "int"))) || kinds.Comparable(l, n) || kinds.Text(deep) != "" || kinds.Of(kinds.Tree(deep), nil).Kind != 0 {
+	is(t, "P10.1: With of a deep type", kinds.With(deep, []string{"P"}, []kinds.Type{deep}), defs.Slices(19998, p))
+	if kinds.Assigns(l, n, n) != true || kinds.Assigns(l, n, defs.Slices(9999, typ(1, "int"))) || kinds.Comparable(l, n) || kinds.Text(deep) != "" || kinds.Of(kinds.Tree(deep), nil).Kind != 0 {
 		t.Error("P10.1, P10.2: deep types")
 	}
 }

@@ -10,44 +10,14 @@ import (
 )
 
 // typ makes a type.
-func typ(kind int, name string, args ...kinds.Type) kinds.Type {
-	return kinds.Type{Kind: kind, Name: name, Args: args}
-}
-
-// written tells a type as a text of its own: two have the same one, if they are the same.
-func written(t kinds.Type) string { return string(write(nil, t)) }
-
-func write(out []byte, t kinds.Type) []byte {
-	out = strconv.AppendQuote(strconv.AppendInt(append(out, '('), int64(t.Kind), 10), t.Name)
-	for _, x := range t.Args {
-		out = write(out, x)
-	}
-	return append(out, ')')
-}
+func typ(kind int, name string, args ...kinds.Type) kinds.Type { return defs.Make(kind, name, args...) }
 
 // is checks that a type is what it is to be.
 func is(t *testing.T, what string, got, want kinds.Type) {
 	t.Helper()
-	if written(got) != written(want) {
-		t.Errorf("%s: %.300s, not %.300s", what, written(got), written(want))
+	if defs.Written(got) != defs.Written(want) {
+		t.Errorf("%s: %.300s, not %.300s", what, defs.Written(got), defs.Written(want))
 	}
-}
-
-// inSlices is a type in so many slices.
-func inSlices(count int, t kinds.Type) kinds.Type {
-	for range count {
-		t = typ(5, "", t)
-	}
-	return t
-}
-
-// function is one of so many parameters that are int, without a result: there are so many and 2 types in it.
-func function(params int) kinds.Type {
-	var l []kinds.Type
-	for range params {
-		l = append(l, typ(1, "int"))
-	}
-	return typ(6, "", append(l, typ(7, ""))...)
 }
 
 // nothing is what is told where there is none.
@@ -69,11 +39,11 @@ func TestSame(t *testing.T) {
 	for i, a := range one() {
 		for j, b := range one() {
 			if kinds.Same(a, b) != (i == j) {
-				t.Errorf("P10.1: Same(%s, %s): %t", written(a), written(b), i != j)
+				t.Errorf("P10.1: Same(%s, %s): %t", defs.Written(a), defs.Written(b), i != j)
 			}
 		}
-		if !kinds.Same(inSlices(99, typ(a.Kind, a.Name)), inSlices(99, typ(a.Kind, a.Name))) {
-			t.Errorf("P10.1: %s within 99 is not the same", written(a))
+		if !kinds.Same(defs.Slices(99, typ(a.Kind, a.Name)), defs.Slices(99, typ(a.Kind, a.Name))) {
+			t.Errorf("P10.1: %s within 99 is not the same", defs.Written(a))
 		}
 	}
 	if !kinds.Same(kinds.Type{Kind: 5, Args: []kinds.Type{}}, kinds.Type{Kind: 5}) {
@@ -87,12 +57,12 @@ func TestSameDeep(t *testing.T) {
 		slices int
 		want   bool
 	}{{0, true}, {98, true}, {99, true}, {100, false}, {101, false}, {9999, false}} {
-		d := inSlices(x.slices, typ(1, "int"))
+		d := defs.Slices(x.slices, typ(1, "int"))
 		if kinds.Same(d, d) != x.want || kinds.Same(typ(6, "", typ(1, "int"), d), typ(6, "", typ(1, "int"), d)) != (x.want && x.slices < 99) {
 			t.Errorf("P10.1: in %d slices: %t", x.slices, !x.want)
 		}
 	}
-	if kinds.Same(inSlices(99, typ(1, "int")), inSlices(99, typ(1, "bool"))) || kinds.Same(inSlices(99, typ(1, "int")), inSlices(98, typ(1, "int"))) {
+	if kinds.Same(defs.Slices(99, typ(1, "int")), defs.Slices(99, typ(1, "bool"))) || kinds.Same(defs.Slices(99, typ(1, "int")), defs.Slices(98, typ(1, "int"))) {
 		t.Error("P10.1: two that are not the same")
 	}
 }
@@ -125,7 +95,7 @@ func TestWith(t *testing.T) {
 		{typ(4, "P", q), "P Q", []kinds.Type{text, integer}, text},
 		{typ(4, "R", q), "P Q", []kinds.Type{text, integer}, typ(4, "R", integer)},
 		{typ(0, "P", p), "P", []kinds.Type{nothing}, typ(0, "P", nothing)},
-		{inSlices(9999, p), "P", []kinds.Type{inSlices(9999, q)}, inSlices(19998, q)},
+		{defs.Slices(9999, p), "P", []kinds.Type{defs.Slices(9999, q)}, defs.Slices(19998, q)},
 	} {
 		is(t, "P10.1: With", kinds.With(x.t, strings.Fields(x.params), x.by), x.want)
 	}
@@ -201,17 +171,17 @@ func TestFullWithin(t *testing.T) {
 	a := typ(3, "A1")
 	is(t, "P10.1: 100 aliases", kinds.Full(chain(100, "type # = @", "int"), a), typ(1, "int"))
 	is(t, "P10.1: 101 aliases", kinds.Full(chain(101, "type # = @", "int"), a), nothing)
-	is(t, "P10.1: 99 aliases, and others beside", kinds.Full(chain(99, "type # = @", "B[B[B[C]]]; type B[P any] = []P; type C = int"), a), inSlices(3, typ(1, "int")))
+	is(t, "P10.1: 99 aliases, and others beside", kinds.Full(chain(99, "type # = @", "B[B[B[C]]]; type B[P any] = []P; type C = int"), a), defs.Slices(3, typ(1, "int")))
 	is(t, "P10.1: 99 aliases, and two within one another", kinds.Full(chain(99, "type # = @", "B[C]; type B[P any] = D; type C = int; type D = int"), a), nothing)
 	is(t, "P10.1: 100 aliases, and one in what is given", kinds.Full(chain(100, "type # = @", "[]B; type B = int"), a), nothing)
-	is(t, "P10.1: 100 aliases with slices", kinds.Full(chain(100, "type # = []@", "int"), a), inSlices(100, typ(1, "int")))
+	is(t, "P10.1: 100 aliases with slices", kinds.Full(chain(100, "type # = []@", "int"), a), defs.Slices(100, typ(1, "int")))
 	is(t, "P10.1: 100 aliases with types", kinds.Full(chain(100, "type #[P any] = @[P]", "L"), typ(3, "A1", typ(1, "int"))), typ(3, "L", typ(1, "int")))
 	is(t, "P10.1: 101 aliases with types", kinds.Full(chain(101, "type #[P any] = @[P]", "L"), typ(3, "A1", typ(1, "int"))), nothing)
 	given := typ(1, "int")
 	for range 150 {
 		given = typ(3, "A1", given)
 	}
-	is(t, "P10.1: aliases that are given", kinds.Full(defs.Of("type A1[P any] = []P"), given), inSlices(150, typ(1, "int")))
+	is(t, "P10.1: aliases that are given", kinds.Full(defs.Of("type A1[P any] = []P"), given), defs.Slices(150, typ(1, "int")))
 	is(t, "P10.1: what is not an alias", kinds.Full(chain(100, "type # = @", "N; type N M; type M = N"), a), typ(3, "N"))
 }
 
@@ -237,15 +207,15 @@ func TestFullLooked(t *testing.T) {
 		for room := 19990; room <= 20010; room++ {
 			size := (room - x.others) / x.times
 			looked := x.others + x.times*size
-			got := kinds.Full(l, kinds.With(whole, []string{"P"}, []kinds.Type{function(size - 2)}))
+			got := kinds.Full(l, kinds.With(whole, []string{"P"}, []kinds.Type{defs.Function(size - 2)}))
 			if (got.Kind == 0) != (looked >= 20000) {
 				t.Errorf("P10.1: Full, %s, of %s, %d types are looked at: kind %d", x.declarations, x.t, looked, got.Kind)
 			}
 		}
 	}
 	is(t, "P10.1: aliases that double", kinds.Full(chain(99, "type # = func(@, @)", "int"), typ(3, "A1")), nothing)
-	is(t, "P10.1: a type that is too deep", kinds.Full(nil, inSlices(19999, typ(1, "int"))), nothing)
-	is(t, "P10.1: a deep type", kinds.Full(nil, inSlices(19998, typ(1, "int"))), inSlices(19998, typ(1, "int")))
+	is(t, "P10.1: a type that is too deep", kinds.Full(nil, defs.Slices(19999, typ(1, "int"))), nothing)
+	is(t, "P10.1: a deep type", kinds.Full(nil, defs.Slices(19998, typ(1, "int"))), defs.Slices(19998, typ(1, "int")))
 }
 
 // P10.1: what stands behind a type.
@@ -302,13 +272,13 @@ func TestBehindSteps(t *testing.T) {
 				if size <= x.most {
 					want = typ(1, "int")
 				}
-				given := kinds.With(defs.Type(x.t, "P"), []string{"P"}, []kinds.Type{function(size - 2)})
+				given := kinds.With(defs.Type(x.t, "P"), []string{"P"}, []kinds.Type{defs.Function(size - 2)})
 				is(t, "P10.1: Behind "+x.t+" with "+strconv.Itoa(size)+" types", kinds.Behind(l, given), want)
 			}
 		}
 	}
-	is(t, "P10.1: what is not named may be great", kinds.Behind(nil, function(3000)), function(3000))
-	is(t, "P10.1: what comes of the last step may be great", kinds.Behind([]kinds.Def{{Name: "A1", Type: function(3000)}}, a), function(3000))
+	is(t, "P10.1: what is not named may be great", kinds.Behind(nil, defs.Function(3000)), defs.Function(3000))
+	is(t, "P10.1: what comes of the last step may be great", kinds.Behind([]kinds.Def{{Name: "A1", Type: defs.Function(3000)}}, a), defs.Function(3000))
 	is(t, "P10.1: what doubles", kinds.Behind(chain(50, "type #[P any] @[func(P, P)]", "L"), typ(3, "A1", typ(1, "int"))), nothing)
 }
 
@@ -331,7 +301,7 @@ func TestComparable(t *testing.T) {
 	l := []kinds.Def{{Name: "A", Type: typ(1, "")}, {Name: "S", Type: typ(8, "a", typ(1, "int"))}}
 	for _, x := range one() {
 		if kinds.Comparable(l, x) != (x.Kind == 1) || kinds.Ordered(l, x) != (x.Kind == 1) {
-			t.Errorf("P10.1: Comparable, Ordered of %s", written(x))
+			t.Errorf("P10.1: Comparable, Ordered of %s", defs.Written(x))
 		}
 	}
 	if !kinds.Comparable(l, typ(3, "A")) || !kinds.Ordered(l, typ(3, "A")) || kinds.Comparable(l, typ(3, "S")) || kinds.Ordered(nil, typ(1, "bool")) || !kinds.Comparable(nil, typ(1, "bool")) {
@@ -393,11 +363,11 @@ func TestAssignsUntyped(t *testing.T) {
 func TestAssignsNothing(t *testing.T) {
 	l := append(definitions(), defs.Of("type Q1 []O; type Deep = A1")...)
 	l = append(l, chain(100, "type # = @", "int")...)
-	no := []kinds.Type{nothing, typ(0, "int"), typ(0, "N"), typ(0, "unknown"), typ(0, "", typ(1, "int")), typ(3, "Deep"), function(20000)}
+	no := []kinds.Type{nothing, typ(0, "int"), typ(0, "N"), typ(0, "unknown"), typ(0, "", typ(1, "int")), typ(3, "Deep"), defs.Function(20000)}
 	for _, s := range []string{"O", "O1", "O2", "M", "M[int, int]", "A[int]", "V", "V[O]", "[]O", "func() M", "unknown[M]"} {
 		no = append(no, defs.Type(s))
 	}
-	others := []kinds.Type{typ(2, "int"), typ(2, ""), typ(4, "P"), typ(7, ""), typ(8, ""), function(0), function(19997)}
+	others := []kinds.Type{typ(2, "int"), typ(2, ""), typ(4, "P"), typ(7, ""), typ(8, ""), defs.Function(0), defs.Function(19997)}
 	for _, s := range []string{"int", "bool", "N", "unknown", "unknown[int]", "L[int, int]", "R", "Q1", "A", "L[int]", "Q", "S", "Z[int]", "[]int", "func()"} {
 		others = append(others, defs.Type(s))
 	}
@@ -427,7 +397,7 @@ func TestAssignsNothingBehind(t *testing.T) {
 		}
 		for _, x := range []kinds.Type{typ(5, "", typ(0, "")), typ(7, ""), typ(8, ""), typ(6, "")} {
 			if kinds.Assigns(l, defs.Type(from), x) || kinds.Assigns(l, x, defs.Type(from)) {
-				t.Errorf("P10.1: Assigns from %s to %s, or back", from, written(x))
+				t.Errorf("P10.1: Assigns from %s to %s, or back", from, defs.Written(x))
 			}
 		}
 	}

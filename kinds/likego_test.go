@@ -10,6 +10,7 @@ import (
 	"testing"
 
 	"demotic/api"
+	"demotic/defs"
 	"demotic/kinds"
 	"demotic/read"
 	"demotic/rows"
@@ -17,13 +18,13 @@ import (
 
 // author writes declarations of types of any bytes: N0 to N4, of which each has as many parameters as counts says, and types that name them.
 type author struct {
-	maker
+	*defs.Grower
 	counts []int
 }
 
 func (a *author) text(room int, params []string) string {
 	if room > 0 {
-		switch a.pick(9) {
+		switch a.Pick(9) {
 		case 0:
 			return "[]" + a.text(room-1, params)
 		case 1:
@@ -35,11 +36,11 @@ func (a *author) text(room int, params []string) string {
 		}
 	}
 	l := append([]string{"int", "string", "bool"}, params...)
-	return l[a.pick(len(l))]
+	return l[a.Pick(len(l))]
 }
 
 func (a *author) named(room int, params []string) string {
-	i := a.pick(len(a.counts))
+	i := a.Pick(len(a.counts))
 	s := "N" + strconv.Itoa(i)
 	var l []string
 	for range a.counts[i] {
@@ -53,7 +54,7 @@ func (a *author) named(room int, params []string) string {
 
 // declarations tells N0 to N4, and a function f whose parameters have types.
 func (a *author) declarations() string {
-	a.counts = []int{a.pick(3), a.pick(2), 0, a.pick(2), 0}
+	a.counts = []int{a.Pick(3), a.Pick(2), 0, a.Pick(2), 0}
 	s := "package p\n"
 	for i, count := range a.counts {
 		params := []string{"P", "Q"}[:count]
@@ -61,7 +62,7 @@ func (a *author) declarations() string {
 		if count > 0 {
 			s += "[" + strings.Join(params, " any, ") + " any]"
 		}
-		switch a.pick(9) {
+		switch a.Pick(9) {
 		case 0:
 			s += " struct { a " + a.text(2, params) + "; b " + a.text(1, params) + " }\n"
 		case 1, 2, 3, 4:
@@ -228,7 +229,7 @@ func great(l []kinds.Def, t kinds.Type) bool {
 func TestLikeGo(t *testing.T) {
 	count := 0
 	for seed := range 12000 {
-		a := author{maker: maker{rows.Noise(seed, 150)}}
+		a := author{Grower: defs.Grow(rows.Noise(seed, 150))}
 		if likeGo(t, a.declarations()) {
 			count++
 		}
@@ -245,7 +246,7 @@ func FuzzLikeGo(f *testing.F) {
 	}
 	f.Fuzz(func(t *testing.T, b []byte) {
 		if len(b) < 400 {
-			a := author{maker: maker{b}}
+			a := author{Grower: defs.Grow(b)}
 			likeGo(t, a.declarations())
 		}
 	})

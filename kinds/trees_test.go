@@ -5,6 +5,7 @@ import (
 	"testing"
 
 	"demotic/api"
+	"demotic/defs"
 	"demotic/kinds"
 	"demotic/rows"
 	"demotic/tree"
@@ -63,8 +64,8 @@ func field(count int, n api.Node) api.Node {
 // P10.2: trees that are too deep, too great, or have too long names are none.
 func TestOfLimits(t *testing.T) {
 	integer := api.Node{Kind: api.TName, Text: "int"}
-	deep := func(count int) api.Node { return kinds.Tree(inSlices(count-1, typ(1, "int"))) }
-	named := func(count int) api.Node { return kinds.Tree(typ(3, "L", function(count - 1).Args[:count-1]...)) }
+	deep := func(count int) api.Node { return kinds.Tree(defs.Slices(count-1, typ(1, "int"))) }
+	named := func(count int) api.Node { return kinds.Tree(typ(3, "L", defs.Function(count - 1).Args[:count-1]...)) }
 	text := func(size int) string { return strings.Repeat("a", size) }
 	for _, x := range []struct {
 		what string
@@ -78,7 +79,7 @@ func TestOfLimits(t *testing.T) {
 		{"a name of 100", api.Node{Kind: api.TName, Text: text(100)}, 3}, {"a name of 101", api.Node{Kind: api.TName, Text: text(101)}, 0},
 		{"a field of 100", api.Node{Kind: api.TStruct, Kids: []api.Node{{Kind: api.Field, Text: text(100), Kids: []api.Node{integer}}}}, 8}, {"a field of 101", api.Node{Kind: api.TStruct, Kids: []api.Node{{Kind: api.Field, Text: text(101), Kids: []api.Node{integer}}}}, 0},
 	} {
-		if got := kinds.Of(x.tree, nil); got.Kind != x.want || got.Kind == 0 && written(got) != written(nothing) {
+		if got := kinds.Of(x.tree, nil); got.Kind != x.want || got.Kind == 0 && defs.Written(got) != defs.Written(nothing) {
 			t.Errorf("P10.2: Of %s: kind %d, not %d", x.what, got.Kind, x.want)
 		}
 	}
@@ -102,10 +103,10 @@ func TestTree(t *testing.T) {
 		{typ(3, ""), `TName`, ""}, {typ(3, "a b"), `TName"a b"`, ""}, {typ(1, "func"), `TName"func"`, ""}, {typ(5, "", typ(4, "1")), `TSlice(TName"1")`, ""},
 	} {
 		if got := trees.Text(kinds.Tree(x.t)); got != x.tree {
-			t.Errorf("P10.2: Tree(%s): %s, not %s", written(x.t), got, x.tree)
+			t.Errorf("P10.2: Tree(%s): %s, not %s", defs.Written(x.t), got, x.tree)
 		}
 		if got := kinds.Text(x.t); got != x.text {
-			t.Errorf("P10.2: Text(%s): %s, not %s", written(x.t), got, x.text)
+			t.Errorf("P10.2: Text(%s): %s, not %s", defs.Written(x.t), got, x.text)
 		}
 	}
 }
@@ -124,17 +125,17 @@ func TestTreeNone(t *testing.T) {
 		}
 		for _, y := range within {
 			if n := kinds.Tree(y); !tree.Same(n, api.Node{}) || n.At != 0 {
-				t.Errorf("P10.2: Tree(%s): %s", written(y), trees.Text(n))
+				t.Errorf("P10.2: Tree(%s): %s", defs.Written(y), trees.Text(n))
 			}
 			if s := kinds.Text(y); s != "" {
-				t.Errorf("P10.2: Text(%s): %q", written(y), s)
+				t.Errorf("P10.2: Text(%s): %q", defs.Written(y), s)
 			}
 		}
 	}
-	if s := kinds.Text(inSlices(99, integer)); s != strings.Repeat("[]", 99)+"int" || kinds.Text(inSlices(100, integer)) != "" {
+	if s := kinds.Text(defs.Slices(99, integer)); s != strings.Repeat("[]", 99)+"int" || kinds.Text(defs.Slices(100, integer)) != "" {
 		t.Errorf("P10.2: Text of types within one another: %q", s)
 	}
-	if got := kinds.Tree(inSlices(9999, integer)); len(trees.Text(got)) < 9999*len("TSlice()") {
+	if got := kinds.Tree(defs.Slices(9999, integer)); len(trees.Text(got)) < 9999*len("TSlice()") {
 		t.Error("P10.2: Tree of a deep type")
 	}
 }
